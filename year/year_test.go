@@ -572,7 +572,7 @@ func TestYears(t *testing.T) {
 			for to := -1; to <= len(list)+2; to++ {
 				got, e := y.Between(from, to)
 				average, e2 := y.Averages(from, to)
-				if from < 1 || to > len(list) || to <= from {
+				if from < 1 || to > len(list) || to < from {
 					if e != api.ErrMissing || !like(got, year.Totals{}) || e2 != api.ErrMissing || average != (year.Average{}) {
 						t.Fatalf("Between and Averages(%d, %d) of %d: %v, %v, %v, %v", from, to, len(list), got, e, average, e2)
 					}
@@ -633,11 +633,44 @@ func TestAverages(t *testing.T) {
 	}
 }
 
-// P19.4: periods that aren't there, or don't rise.
+// P19.4: a period up to itself, both counted, is its payslip alone, whatever stands ahead of it and behind it.
+func TestBetweenOne(t *testing.T) {
+	list := []api.Slip{
+		hung(1, bases(800, 700, 600), 80, 1, row(40, 60), 10),
+		hung(2, bases(850, 750, 650), 85, -2, row(45, 65), 20, 30),
+		hung(3, bases(-900, 0, -650), -90, 3, row(-50, -70)),
+	}
+	want := []year.Totals{
+		{Bases: bases(800, 700, 600), Tax: 80, Shortfall: 1, Shares: row(40, 60), Net: 680, Taken: 10, Pay: 670},
+		{Bases: bases(850, 750, 650), Tax: 85, Shortfall: -2, Shares: row(45, 65), Net: 720, Taken: 50, Pay: 670},
+		{Bases: bases(-900, 0, -650), Tax: -90, Shortfall: 3, Shares: row(-50, -70), Net: -760, Pay: -760},
+	}
+	y := begun(t, 1, list...)
+	for i, w := range want {
+		if got, e := y.Between(i+1, i+1); e != api.OK || !like(got, w) {
+			t.Errorf("Between(%d, %d): %v, %v, not %v", i+1, i+1, got, e, w)
+		}
+		mean := year.Average{Cash: w.Cash, Tax: w.Tax, Net: w.Net, Pay: w.Pay}
+		if got, e := y.Averages(i+1, i+1); e != api.OK || got != mean {
+			t.Errorf("Averages(%d, %d): %v, %v, not %v", i+1, i+1, got, e, mean)
+		}
+	}
+	stands(t, y, 1, list...)
+	// The last period that may be, too, and one of the most.
+	y = begun(t, 0, paid(append(slices.Repeat([]int64{-9}, periods-1), top)...)...)
+	if got, e := y.Between(periods, periods); e != api.OK || !like(got, year.Totals{Bases: bases(top, 0, 0), Net: top, Pay: top}) {
+		t.Errorf("Between(%d, %d): %v, %v", periods, periods, got, e)
+	}
+	if got, e := y.Averages(periods, periods); e != api.OK || got != (year.Average{Cash: top, Net: top, Pay: top}) {
+		t.Errorf("Averages(%d, %d): %v, %v", periods, periods, got, e)
+	}
+}
+
+// P19.4: periods that aren't there, or of which the one is ahead of the other.
 func TestBetweenRefuses(t *testing.T) {
 	for _, many := range []int{0, 1, 2, 5} {
 		y := begun(t, 0, paid(slices.Repeat([]int64{9}, many)...)...)
-		for _, c := range [][2]int{{0, 0}, {0, 1}, {0, many}, {-1, 1}, {math.MinInt, many}, {1, many + 1}, {many, many + 1}, {many + 1, many + 1}, {many + 1, many + 2}, {1, math.MaxInt}, {math.MinInt, math.MaxInt}, {math.MaxInt, math.MinInt}, {2, 1}, {many, 1}, {many, 0}, {many, many - 1}, {1, 1}, {2, 2}} {
+		for _, c := range [][2]int{{0, 0}, {0, 1}, {0, many}, {-1, 1}, {math.MinInt, many}, {1, many + 1}, {many, many + 1}, {many + 1, many + 1}, {many + 1, many + 2}, {1, math.MaxInt}, {math.MinInt, math.MaxInt}, {math.MaxInt, math.MinInt}, {2, 1}, {many + 1, 1}, {many, 0}, {many, many - 1}, {-1, -1}, {math.MinInt, math.MinInt}, {math.MaxInt, math.MaxInt}} {
 			if got, e := y.Between(c[0], c[1]); e != api.ErrMissing || !like(got, year.Totals{}) {
 				t.Errorf("Between(%d, %d) of %d: %v, %v", c[0], c[1], many, got, e)
 			}
@@ -770,8 +803,9 @@ func TestMemory(t *testing.T) {
 		one, _ := y.Upto(1)
 		none, _ := y.Upto(0)
 		some, _ := y.Between(1, 2)
+		last, _ := y.Between(2, 2)
 		slip, _ := y.Slip(1)
-		return []year.Totals{tried, y.Totals(), upto, one, none, some, y.Clone().Totals()}, append(y.Slips(), append(y.Clone().Slips(), slip)...)
+		return []year.Totals{tried, y.Totals(), upto, one, none, some, last, y.Clone().Totals()}, append(y.Slips(), append(y.Clone().Slips(), slip)...)
 	}
 	totals, slips := tell()
 	told := fmt.Sprint(totals, slips)
